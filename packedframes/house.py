@@ -1,12 +1,16 @@
 """The house of pictures and streams, and the answers to a list of calls on a new one."""
 
+from packedframes.lone_calls import answer_lone_call, is_lone_call
 from packedframes.packet_calls import answer_packet_call
 from packedframes.picture_calls import answer_picture_call, is_picture_call
 from packedframes.stream_calls import answer_stream_call, is_stream_call
 
 # How many whole numbers follow each call's number, without those of its row.
-ARGUMENTS = {0: 3, 1: 1, 2: 3, 3: 2, 4: 1, 5: 4, 6: 4, 7: 2, 8: 2, 9: 1, 10: 1, 11: 1, 12: 1}
-WITH_ROW = (0, 10)
+ARGUMENTS = {
+    0: 3, 1: 1, 2: 3, 3: 2, 4: 1, 5: 4, 6: 4, 7: 2, 8: 2, 9: 1, 10: 1, 11: 1, 12: 1, 13: 1, 14: 3, 15: 2,
+    16: 2, 17: 2, 18: 1, 19: 2, 20: 0, 21: 2, 22: 4, 23: 0, 24: 0,
+}
+WITH_ROW = (0, 10, 20)
 
 
 class House:
@@ -46,6 +50,8 @@ def answer(house, number, numbers):
         return answer_picture_call(house, number, numbers)
     if is_stream_call(number):
         return answer_stream_call(house, number, numbers)
+    if is_lone_call(number):
+        return answer_lone_call(number, numbers)
     return answer_packet_call(house, number, numbers)
 
 

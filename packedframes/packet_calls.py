@@ -1,8 +1,9 @@
 """The calls on single packets. Each takes the house and the call's numbers, and answers a list."""
 
-from packedframes.refusals import BEHIND_END, FULL, HIT_TOO_OFTEN, MISSING, MOST_PACKETS, OUT_OF_RANGE
-from packedframes.refusals import all_within, is_key, key_refusal, within
-from packedframes.streams import Packet, copy_packet
+from packedframes.refusals import BEHIND_END, FULL, HIT_TOO_OFTEN, MISSING, OUT_OF_RANGE
+from packedframes.refusals import all_octets, is_key, within
+from packedframes.shelves import key_refusal
+from packedframes.streams import MOST_PACKETS, Packet, copy_packet
 
 MOST_FLIPS = 3
 
@@ -112,7 +113,7 @@ def call_twice(house, numbers):
 
 def give_refusal(house, key, octets):
     """Why bytes can't be put behind a stream's packets, or 0."""
-    if len(octets) > 1600 or not all_within(octets, 0, 255):
+    if not all_octets(octets):
         return OUT_OF_RANGE
     refusal = key_refusal(house.streams, key)
     if refusal < 0:

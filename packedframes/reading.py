@@ -3,14 +3,12 @@
 from packedframes.bits import is_sealed
 from packedframes.codes import decoded
 from packedframes.prediction import MIDDLE, REFERENCE_MODE
-from packedframes.streams import first_row, header, slice_size
+from packedframes.streams import CHECK_SIZE, HEADER_SIZE, first_row, header, slice_size
 
 NOT_THERE = 0
 WAITS = 1
 READ = 2
 
-HEADER_SIZE = 10
-CHECK_SIZE = 4
 MODE_PLACE = 4
 
 
@@ -75,6 +73,16 @@ def read_slice(streams, stream, i):
 def slice_states(streams, stream):
     """For each slice whether it's read, waits, or isn't there."""
     return [read_slice(streams, stream, i).state for i in range(stream.slices)]
+
+
+def unread_slices(streams, stream):
+    """The numbers of the slices that aren't read."""
+    return [i for i, state in enumerate(slice_states(streams, stream)) if state != READ]
+
+
+def fits_one_of(stream, numbers, octets):
+    """Whether a packet fits a slice of a stream that has one of these numbers."""
+    return any([fitting_mode(stream, i, octets) >= 0 for i in numbers])
 
 
 def read_rows(streams, stream):

@@ -8,9 +8,7 @@ RING = -7
 HIT_TOO_OFTEN = -8
 FULL = -9
 
-MOST_PICTURES = 6
-MOST_STREAMS = 6
-MOST_PACKETS = 20
+MOST_OCTETS = 1600
 
 
 def within(number, least, greatest):
@@ -23,15 +21,11 @@ def all_within(numbers, least, greatest):
     return all([within(number, least, greatest) for number in numbers])
 
 
+def all_octets(numbers):
+    """Whether a list is one of bytes, and no longer than calls take it."""
+    return len(numbers) <= MOST_OCTETS and all_within(numbers, 0, 255)
+
+
 def is_key(number):
     """Whether a number may be the key of a picture or a stream."""
     return within(number, 1, 99)
-
-
-def key_refusal(shelf, key):
-    """Why there's nothing of this key in a dict of pictures or streams, or 0 if there is."""
-    if not is_key(key):
-        return OUT_OF_RANGE
-    if key not in shelf:
-        return MISSING
-    return 0

@@ -4,6 +4,12 @@ from packedframes.bits import octets_of_number, sealed
 from packedframes.codes import coded
 from packedframes.prediction import CONSTANT_MODE, REFERENCE_MODE
 
+# What a packet has around the coded values.
+HEADER_SIZE = 10
+CHECK_SIZE = 4
+
+MOST_PACKETS = 20
+
 
 class Picture:
     """A grey picture: its sides and its values, row by row."""
@@ -81,6 +87,22 @@ def make_packets(stream, reference_stream):
         stream.packets.append(make_packet(stream, i, reference_slice))
 
 
+def sizes_by_mode(picture, slices, mode):
+    """How many bytes the packet of each slice would have by a mode from 0 to 4."""
+    # The stamp doesn't change a packet's size.
+    stream = Stream(0, picture, slices, 0, 0)
+    coded_slices = [coded(packed_slice(stream, i), stream.width, mode, []) for i in range(slices)]
+    return [HEADER_SIZE + len(octets) + CHECK_SIZE for octets in coded_slices]
+
+
 def copy_packet(packet):
     """The same packet once more, with how often it was hit."""
     return Packet(list(packet.octets), packet.flips, packet.is_burst)
+
+
+def copy_stream(stream):
+    """The same stream once more, with packets of its own."""
+    picture = Picture(stream.width, stream.height, stream.packed)
+    twin = Stream(stream.stamp, picture, stream.slices, stream.reference, stream.reference_stamp)
+    twin.packets = [copy_packet(packet) for packet in stream.packets]
+    return twin

@@ -4,9 +4,12 @@ It shares no code with the program: bits are texts, slices are dicts by column a
 and reading a slice calls itself for the reference.
 """
 
+import copy
+
 from support import slow_check
 
-COUNTS = {0: 3, 1: 1, 2: 3, 3: 2, 4: 1, 5: 4, 6: 4, 7: 2, 8: 2, 9: 1, 10: 1, 11: 1, 12: 1}
+COUNTS = {0: 3, 1: 1, 2: 3, 3: 2, 4: 1, 5: 4, 6: 4, 7: 2, 8: 2, 9: 1, 10: 1, 11: 1, 12: 1, 13: 1, 14: 3, 15: 2, 16: 2,
+          17: 2, 18: 1, 19: 2, 20: 0, 21: 2, 22: 4, 23: 0, 24: 0}
 
 
 class Refused(Exception):
@@ -260,17 +263,21 @@ class PlainHouse:
         row.append([octets, 9])
         return [len(row)]
 
+    def fits(self, stream, i, octets):
+        if len(octets) < 14:
+            return False
+        modes = range(6) if stream["reference"] else range(5)
+        if octets[:10] not in [self.head(stream, i, mode) for mode in modes]:
+            return False
+        return octets[-4:] == list(slow_check(octets[:-4]).to_bytes(4, "big"))
+
     def read(self, stream, i):
         """The slice's values by place, or 1 if it waits, or 0 if it isn't there."""
         state = 0
-        modes = range(6) if stream["reference"] else range(5)
-        heads = {mode: self.head(stream, i, mode) for mode in modes}
         for octets, hits in stream["packets"]:
-            mode = octets[4] if len(octets) >= 14 else 99
-            if mode not in heads or octets[:10] != heads[mode]:
+            if not self.fits(stream, i, octets):
                 continue
-            if octets[-4:] != list(slow_check(octets[:-4]).to_bytes(4, "big")):
-                continue
+            mode = octets[4]
             reference = None
             if mode == 5:
                 other = self.streams.get(stream["reference"])
@@ -306,6 +313,83 @@ class PlainHouse:
                 answer.append(sum(sides) // len(sides) if sides else 512)
         return answer
 
+    def do_13(self, key):
+        unpacked = self.do_12(key)[2:]
+        stream = self.streams[key]
+        packed = [stream["area"][place] for place in places(stream["w"], range(stream["h"]))]
+        off = [max(v, other) - min(v, other) for v, other in zip(packed, unpacked) if v != other]
+        return [len(off), max(off + [0])]
+
+    def do_14(self, key, count, mode):
+        need(1 <= count <= 8 and 0 <= mode <= 4, -1)
+        need(1 <= key <= 99, -1)
+        need(key in self.pictures, -4)
+        w, h, area = self.pictures[key]
+        need(count <= h, -3)
+        stream = {"stamp": self.stamp, "w": w, "h": h, "slices": count, "reference": 0, "reference_stamp": 0,
+                  "area": area}
+        return [len(self.sealed(stream, i, mode, None)) for i in range(count)]
+
+    def do_15(self, key, new):
+        need(1 <= new <= 99, -1)
+        stream = self.stream(key)
+        need(new in self.streams or len(self.streams) < 6, -9)
+        passed = [stream["reference"]]
+        while passed[-1]:
+            passed.append(self.streams[passed[-1]]["reference"])
+        need(new not in passed, -7)
+        self.streams[new] = copy.deepcopy(stream)
+        return [0]
+
+    def do_16(self, a, b):
+        need(1 <= a <= 99 and 1 <= b <= 99, -1)
+        one, other = self.stream(a), self.stream(b)
+        missing = [i for i in range(one["slices"]) if not isinstance(self.read(one, i), dict)]
+        found = [each for each in other["packets"] if any(self.fits(one, i, each[0]) for i in missing)]
+        need(len(one["packets"]) + len(found) <= 20, -9)
+        one["packets"] = one["packets"] + copy.deepcopy(found)
+        return [len(one["packets"])]
+
+    def do_17(self, key, picture):
+        need(1 <= picture <= 99, -1)
+        self.stream(key)
+        need(picture in self.pictures or len(self.pictures) < 6, -9)
+        w, h, *row = self.do_12(key)
+        return self.do_0(picture, w, h, row)
+
+    def do_18(self, key):
+        need(1 <= key <= 99, -1)
+        need(key in self.pictures, -4)
+        del self.pictures[key]
+        return [0]
+
+    def do_19(self, a, b):
+        need(1 <= a <= 99 and 1 <= b <= 99, -1)
+        need(a in self.pictures and b in self.pictures, -4)
+        w, h, area = self.pictures[a]
+        need(self.pictures[b][:2] == (w, h), -5)
+        unlike = [place for place in places(w, range(h)) if area[place] != self.pictures[b][2][place]]
+        return [0, *unlike[0]] if unlike else [1]
+
+    def do_20(self, octets):
+        need(len(octets) <= 1600 and all(0 <= octet <= 255 for octet in octets), -1)
+        return [slow_check(octets)]
+
+    def do_21(self, k, u):
+        need(0 <= k <= 10 and 0 <= u <= 1023, -1)
+        return [len(code(u, k))] + [int(sign) for sign in code(u, k)]
+
+    def do_22(self, mode, a, b, c):
+        need(0 <= mode <= 4 and 0 <= min(a, b, c) and max(a, b, c) <= 1023, -1)
+        known = {(0, 1): a, (1, 0): b, (0, 0): c}
+        return [predict(mode, known, 1, 1, None), context(known, 1, 1)]
+
+    def do_23(self):
+        return [len(self.pictures)] + [key for key in range(1, 100) if key in self.pictures]
+
+    def do_24(self):
+        return [len(self.streams)] + [key for key in range(1, 100) if key in self.streams]
+
 
 def plain_answers(calls):
     """What the document asks to be answered."""
@@ -315,7 +399,7 @@ def plain_answers(calls):
     while rest:
         name, count = rest[0], COUNTS[rest[0]]
         arguments, rest = rest[1:1 + count], rest[1 + count:]
-        if name in (0, 10):
+        if name in (0, 10, 20):
             arguments, rest = arguments + [rest[1:1 + rest[0]]], rest[1 + rest[0]:]
         try:
             answer = getattr(house, f"do_{name}")(*arguments)

@@ -59,6 +59,59 @@ def unpack(key):
     return [12, key]
 
 
+def errors(key):
+    return [13, key]
+
+
+def sizes(key, slices, mode):
+    return [14, key, slices, mode]
+
+
+def copy(key, new):
+    return [15, key, new]
+
+
+def merge(a, b):
+    return [16, a, b]
+
+
+def keep(key, picture):
+    return [17, key, picture]
+
+
+def drop(key):
+    return [18, key]
+
+
+def same(a, b):
+    return [19, a, b]
+
+
+def check(octets):
+    return [20, len(octets)] + list(octets)
+
+
+def code(k, u):
+    return [21, k, u]
+
+
+def predict(mode, a, b, c):
+    return [22, mode, a, b, c]
+
+
+def pictures():
+    return [23]
+
+
+def streams():
+    return [24]
+
+
+def joined(calls):
+    """Calls as they are handed in, one behind another."""
+    return [number for call in calls for number in call]
+
+
 def split(told, count):
     """The answers of so many calls, apart."""
     apart = []
@@ -73,12 +126,46 @@ def split(told, count):
 
 def run(*calls):
     """The answers to calls on a new house, a list each."""
-    return split(answers([number for call in calls for number in call]), len(calls))
+    numbers = joined(calls)
+    if len(calls) > 400 or len(numbers) > 16000:
+        raise AssertionError(f"{len(calls)} calls of {len(numbers)} numbers are more than may be handed in")
+    return split(answers(numbers), len(calls))
 
 
 def last(*calls):
     """The answer to the last of some calls."""
     return run(*calls)[-1]
+
+
+def octets_of(calls, key):
+    """The bytes of each packet of a stream after some calls."""
+    count = last(*calls, packets(key))[0]
+    told = run(*calls, *[packet(key, i) for i in range(count)])
+    return [answer[1:] for answer in told[len(calls):]]
+
+
+def hits_of(calls, key):
+    """For each packet of a stream what a burst and then four flips answer: that tells how often it was hit."""
+    count = last(*calls, packets(key))[0]
+    tries = []
+    for i in range(count):
+        burst_told = last(*calls, burst(key, i, 0, 1))
+        tries.append([burst_told] + run(*calls, *[flip(key, i, 0, 0)] * 4)[len(calls):])
+    return tries
+
+
+def whole(*calls):
+    """All that can be asked of the house that some calls leave, and which stamp would be next."""
+    picture_keys = last(*calls, pictures())
+    stream_keys = last(*calls, streams())
+    looks = [values(key) for key in picture_keys[1:]]
+    looks += [look(key) for key in stream_keys[1:] for look in (packets, slices, unpack, errors)]
+    told = run(*calls, *looks)[len(calls):]
+    octets = [octets_of(calls, key) for key in stream_keys[1:]]
+    hits = [hits_of(calls, key) for key in stream_keys[1:]]
+    free = [key for key in picture_keys[1:] if key in stream_keys[1:]][:1]
+    stamps = [last(*calls, pack(key), packet(key, 0))[1:3] for key in free]
+    return [picture_keys, stream_keys, told, octets, hits, stamps]
 
 
 def flat(w, h, value=300):

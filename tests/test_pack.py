@@ -2,10 +2,8 @@
 
 import unittest
 
-from packedframes.house import House
-from packedframes.stream_calls import call_pack
-from packedframes.streams import Picture, Stream
-from support import FAR, flat, last, lose, near, noise, pack, packet, packets, picture, ramp, run, seal, slices, unpack
+from support import (FAR, copy, drop, flat, last, lose, near, noise, pack, packet, packets, picture, ramp, run, seal,
+                     slices, streams, unpack)
 
 
 class PackTest(unittest.TestCase):
@@ -167,21 +165,29 @@ class PackRefusalsTest(unittest.TestCase):
             self.assertEqual(run(*self.base, wrong, packets(1), packet(1, 0), packet(1, 1))[-3:], kept)
 
     def test_seventh_stream(self):
-        # Six pictures can't make seven streams by the calls so far, so the house is filled by hand.
-        house = House()
-        plain = Picture(1, 2, [1, 2])
-        for key in range(1, 7):
-            house.streams[key] = Stream(key, plain, 1, 0, 0)
-        house.pictures[7] = plain
-        house.pictures[6] = plain
-        self.assertEqual(call_pack(house, [7, 1, 0]), [-9])
-        self.assertEqual(call_pack(house, [7, 3, 0]), [-3])
-        self.assertEqual(call_pack(house, [8, 1, 0]), [-4])
-        # Before a reference that is missing or has other slices.
-        self.assertEqual(call_pack(house, [7, 1, 50]), [-9])
-        self.assertEqual(call_pack(house, [7, 2, 6]), [-9])
-        self.assertEqual(sorted(house.streams), [1, 2, 3, 4, 5, 6])
-        self.assertEqual(len(call_pack(house, [6, 1, 0])), 1)
+        six = [picture(7, 1, 2, [1, 2]), pack(7)] + [copy(7, key) for key in range(1, 6)]
+        six += [picture(8, 1, 2, [1, 2])]
+        self.assertEqual(last(*six, streams()), [6, 1, 2, 3, 4, 5, 7])
+        self.assertEqual(last(*six, pack(8)), [-9])
+        self.assertEqual(last(*six, pack(8), streams()), [6, 1, 2, 3, 4, 5, 7])
+        self.assertEqual(last(*six, pack(8, 9)), [-1])
+        self.assertEqual(last(*six, pack(9)), [-4])
+        self.assertEqual(last(*six, pack(8, 3)), [-3])
+        # Before a reference that is missing, has other slices, or is the key itself.
+        self.assertEqual(last(*six, pack(8, 1, 50)), [-9])
+        self.assertEqual(last(*six, pack(8, 2, 7)), [-9])
+        self.assertEqual(last(*six, pack(8, 1, 8)), [-9])
+        # One that's there is packed anew.
+        self.assertEqual(len(last(*six, pack(7))), 1)
+        self.assertEqual(last(*six, pack(8), pack(7), packet(7, 0))[1:3], [0, 2])
+
+    def test_seventh_stream_by_pictures_dropped(self):
+        calls = []
+        for key in range(1, 8):
+            calls += [picture(key, 1, 1, [key]), pack(key), drop(key)]
+        told = run(*calls, streams())
+        self.assertEqual(told[1::3][:7], [[17]] * 6 + [[-9]])
+        self.assertEqual(told[-1], [6, 1, 2, 3, 4, 5, 6])
 
 
 if __name__ == "__main__":

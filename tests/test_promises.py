@@ -4,8 +4,8 @@ import itertools
 import random
 import unittest
 
-from support import (answers, burst, edges, flat, flip, give, last, lose, near, noise, pack, packet, packets, picture,
-                     ramp, run, slices, split, turn, twice, unpack)
+from support import (answers, burst, copy, drop, edges, errors, flat, flip, give, joined, keep, last, lose, merge, near,
+                     noise, pack, packet, packets, picture, ramp, run, same, slices, split, turn, twice, unpack)
 
 
 def contents(w, h):
@@ -18,8 +18,8 @@ class FirstPromiseTest(unittest.TestCase):
     """What's packed is read as the very same values."""
 
     def check(self, w, h, greys, count):
-        by_itself = run(picture(1, w, h, greys), pack(1, count), slices(1), unpack(1))
-        self.assertEqual(by_itself[2:], [[count] + [2] * count, [w, h] + greys])
+        by_itself = run(picture(1, w, h, greys), pack(1, count), slices(1), unpack(1), errors(1))
+        self.assertEqual(by_itself[2:], [[count] + [2] * count, [w, h] + greys, [0, 0]])
 
     def check_with_reference(self, w, h, greys, other, count):
         told = run(picture(1, w, h, other), picture(2, w, h, greys), pack(1, count), pack(2, count, 1),
@@ -59,6 +59,14 @@ class FirstPromiseTest(unittest.TestCase):
         calls += [pack(key, 5, key - 1) for key in range(1, 7)]
         told = run(*calls, *[unpack(key) for key in range(1, 7)])
         self.assertEqual(told[-6:], [[w, h] + greys for greys in pictures])
+
+    def test_copied_kept_and_packed_again(self):
+        for w, h in ((1, 1), (7, 8), (24, 24)):
+            for greys in contents(w, h):
+                count = min(8, h)
+                told = run(picture(1, w, h, greys), pack(1, count), copy(1, 9), keep(9, 5), drop(1), pack(5, count, 9),
+                           errors(5), keep(5, 1), same(1, 5), unpack(9), unpack(5))
+                self.assertEqual(told[6:], [[0, 0], [0], [1], [w, h] + greys, [w, h] + greys])
 
     def test_largest_packet_can_be_given(self):
         # However badly values are predicted, the packet stays within what give takes.
@@ -147,8 +155,33 @@ class SecondPromiseTest(unittest.TestCase):
                     if states[1 + i] == 2:
                         self.assertEqual(unpacked[2 + 8 * i:10 + 8 * i], greys[8 * i:8 * i + 8])
 
-    def mishap(self, source):
-        key, i = source.randint(1, 2), source.randrange(5)
+    def test_whatever_was_copied_and_merged_besides(self):
+        source = random.Random(7)
+        w, h = 4, 6
+        first = noise(w, h, 7)
+        second = near(first, 8)
+        # Streams 1 and 3 are of the first picture, 2 and 4 of the second.
+        base = [picture(1, w, h, first), picture(2, w, h, second), pack(1, 3), pack(2, 3, 1), copy(1, 3), copy(2, 4)]
+        twins = {1: 3, 3: 1, 2: 4, 4: 2}
+        for attempt in range(300):
+            calls = list(base)
+            for step in range(source.randrange(60)):
+                key = source.randint(1, 4)
+                spread = (self.mishap(source, 4), self.mishap(source, 4), merge(key, twins[key]),
+                          merge(key, source.randint(1, 4)), copy(key, twins[key]))
+                calls.append(source.choice(spread))
+            told = run(*calls, *[look(key) for key in twins for look in (slices, unpack, errors)])[len(calls):]
+            for place, key in enumerate(twins):
+                states, unpacked, off = told[3 * place:3 * place + 3]
+                greys = first if key in (1, 3) else second
+                unread = [i for i in range(3) if states[1 + i] != 2]
+                for i in range(3):
+                    if i not in unread:
+                        self.assertEqual(unpacked[2 + 8 * i:10 + 8 * i], greys[8 * i:8 * i + 8])
+                self.assertLessEqual(off[0], 8 * len(unread))
+
+    def mishap(self, source, keys=2):
+        key, i = source.randint(1, keys), source.randrange(5)
         kind = source.randrange(6)
         if kind == 0:
             return lose(key, i)
@@ -197,6 +230,18 @@ class ThirdPromiseTest(unittest.TestCase):
                     if not i * 11 // 5 <= y < (i + 1) * 11 // 5:
                         self.assertEqual(told[-2][2 + 3 * y:5 + 3 * y], self.rows(1, [y]))
 
+    def test_read_again_once_the_lost_slice_is_merged(self):
+        for i in range(self.count):
+            told = run(*self.base, copy(1, 9), lose(1, i), errors(3), errors(4), merge(1, 9),
+                       *[errors(key) for key in (1, 2, 3, 4)])
+            self.assertGreater(told[-7][0], 0)
+            self.assertEqual(told[-6:], [[0, 0], [5]] + [[0, 0]] * 4)
+
+    def test_a_hit_copy_leaves_the_others(self):
+        for i in range(self.count):
+            told = run(*self.base, copy(1, 9), lose(9, i), *[slices(key) for key in (9, 1, 2, 3, 4)])
+            self.assertEqual(told[-5:], [[5] + [2] * i + [0] + [2] * (4 - i)] + [[5] + [2] * 5] * 4)
+
     def test_a_slice_by_another_mode_does_not_wait(self):
         # The middle slice is flat: by its difference it takes no fewer bytes than by itself.
         first = noise(4, 3, 1)
@@ -227,7 +272,7 @@ class ThirdPromiseTest(unittest.TestCase):
 class WholeLineTest(unittest.TestCase):
     def test_long_line(self):
         calls = [picture(1, 24, 24, noise(24, 24, 1)), pack(1, 8)] + [slices(1), packets(1)] * 199
-        told = split(answers([number for call in calls for number in call]), 400)
+        told = split(answers(joined(calls)), 400)
         self.assertEqual(told[-2], [8] + [2] * 8)
 
 
